@@ -1,0 +1,1 @@
+"""Middlesay: a reasoner whose every answer has its paper."""

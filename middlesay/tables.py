@@ -1,0 +1,26 @@
+"""The tables of sayings, as whole numbers."""
+
+from middlesay.sayings import names_of, value_of
+from middlesay.words import refuse_lacking
+
+
+def _column(place, full):
+    """The rows, as bits, in which the name at this place is true: bit r where bit place of r is 1."""
+    width = 1 << place
+    # Rows without the bit and rows with it take turns, width of each at a time, and
+    # (1 << width) - 1, times (1 << width) + 1, is two such turns full: the quotient has those without.
+    return (full // ((1 << width) + 1)) << width
+
+
+def table(saying, names):
+    """The whole number whose bit r tells whether the saying holds in row r of the names."""
+    refuse_lacking(names_of(saying), names)
+    full = (1 << (1 << len(names))) - 1
+    values = {name: _column(place, full) for place, name in enumerate(names)}
+    return value_of(saying, values, full)
+
+
+def same(saying, other):
+    """Whether two sayings hold in the same rows of all names of both."""
+    names = sorted(set(names_of(saying) + names_of(other)))
+    return table(saying, names) == table(other, names)
