@@ -1,0 +1,54 @@
+"""Names and arguments of the interface, as far as it is built."""
+
+import inspect
+import unittest
+
+from middlesay import chains, clausing, errors, literals, sayings, sayingtexts, steptexts, tables
+
+FUNCTIONS = (
+    (sayings, "is_saying", "(thing)"), (sayings, "names_of", "(saying)"), (sayings, "holds", "(saying, row)"),
+    (tables, "table", "(saying, names)"), (tables, "same", "(saying, other)"),
+    (sayingtexts, "show_saying", "(saying)"), (sayingtexts, "read_saying", "(text)"),
+    (literals, "is_name", "(thing)"), (literals, "is_clause", "(thing)"), (literals, "is_true", "(clause, row)"),
+    (literals, "is_part", "(clause, other)"), (clausing, "clauses_of", "(saying, mark)"),
+    (clausing, "spread", "(saying, *, most=500)"), (chains, "comes_to", "(chain, clauses, clause)"),
+    (steptexts, "show_clause", "(clause)"),
+)
+
+CLASSES = (
+    (errors, "NoText", {"__init__": "(self, row)"}), (errors, "NoChain", {"__init__": "(self, why)"}),
+    (errors, "NoTree", {"__init__": "(self, why)"}), (errors, "NoWay", {"__init__": "(self, why)"}),
+    (errors, "NoRow", {"__init__": "(self, row)"}), (errors, "NoName", {"__init__": "(self, name)"}),
+    (errors, "NoLabel", {"__init__": "(self, label)"}), (errors, "NoStep", {"__init__": "(self, step)"}),
+    (errors, "NoMark", {"__init__": "(self, spot)"}), (errors, "NoOrder", {"__init__": "(self, spot)"}),
+    (errors, "NoClash", {"__init__": "(self, row)"}), (errors, "TooGreat", {"__init__": "(self, most)"}),
+    (errors, "TooMany", {"__init__": "(self, most)"}),
+    (chains, "Chain", {
+        "__init__": "(self, steps)", "steps": "(self)", "clauses": "(self)", "last": "(self)", "givens": "(self)",
+        "__len__": "(self)", "__eq__": "(self, other)", "__str__": "(self)",
+    }),
+)
+
+
+class Interface(unittest.TestCase):
+
+    def test_functions(self):
+        for module, name, arguments in FUNCTIONS:
+            with self.subTest(name):
+                function = getattr(module, name)
+                self.assertTrue(inspect.isfunction(function))
+                self.assertEqual(module.__name__, function.__module__)
+                self.assertEqual(arguments, str(inspect.signature(function)))
+
+    def test_classes_and_their_own_methods(self):
+        for module, name, methods in CLASSES:
+            made = getattr(module, name)
+            self.assertEqual(module.__name__, made.__module__)
+            for method, arguments in methods.items():
+                with self.subTest(f"{name}.{method}"):
+                    self.assertIn(method, vars(made))
+                    self.assertEqual(arguments, str(inspect.signature(vars(made)[method])))
+
+
+if __name__ == "__main__":
+    unittest.main()
