@@ -53,7 +53,7 @@ def _clause_of_step(step, ahead):
     if len(step) == 2 and step[0] == "given" and is_clause(step[1]):
         return step[1]
     if len(step) == 4 and step[0] == "met" and _is_below(step[1], len(ahead)) and _is_below(step[2], len(ahead)):
-        return _meeting(ahead[step[1]], ahead[step[2]], step[3])
+        return meeting(ahead[step[1]], ahead[step[2]], step[3])
     return None
 
 
@@ -62,7 +62,7 @@ def _is_below(thing, count):
     return isinstance(thing, int) and not isinstance(thing, bool) and 0 <= thing < count
 
 
-def _meeting(first, second, name):
+def meeting(first, second, name):
     """The clause of a meeting of two clauses on a name; None where they don't meet so."""
     if (name, True) not in first or (name, False) not in second:
         return None

@@ -4,7 +4,7 @@ from middlesay.sayings import names_of, value_of
 from middlesay.words import refuse_lacking
 
 
-def _column(place, full):
+def column(place, full):
     """The rows, as bits, in which the name at this place is true: bit r where bit place of r is 1."""
     width = 1 << place
     # Rows without the bit and rows with it take turns, width of each at a time, and
@@ -16,7 +16,7 @@ def table(saying, names):
     """The whole number whose bit r tells whether the saying holds in row r of the names."""
     refuse_lacking(names_of(saying), names)
     full = (1 << (1 << len(names))) - 1
-    values = {name: _column(place, full) for place, name in enumerate(names)}
+    values = {name: column(place, full) for place, name in enumerate(names)}
     return value_of(saying, values, full)
 
 

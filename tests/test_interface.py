@@ -3,7 +3,8 @@
 import inspect
 import unittest
 
-from middlesay import chains, clausing, errors, literals, sayings, sayingtexts, steptexts, tables
+from middlesay import chains, clausing, deciding, errors, literals, sayings, sayingtexts, search, steptexts, tables
+from middlesay import trees, turning
 
 FUNCTIONS = (
     (sayings, "is_saying", "(thing)"), (sayings, "names_of", "(saying)"), (sayings, "holds", "(saying, row)"),
@@ -13,6 +14,12 @@ FUNCTIONS = (
     (literals, "is_part", "(clause, other)"), (clausing, "clauses_of", "(saying, mark)"),
     (clausing, "spread", "(saying, *, most=500)"), (chains, "comes_to", "(chain, clauses, clause)"),
     (steptexts, "show_clause", "(clause)"),
+    (turning, "trimmed", "(chain)"), (turning, "shared", "(chain)"), (turning, "lightened", "(chain)"),
+    (turning, "joined", "(chain, other, name)"), (turning, "put_in", "(chain, other)"),
+    (search, "search", "(clauses, *, order=(), most=5000)"),
+    (deciding, "decided", "(ones, others)"), (deciding, "given_by", "(sayings, saying)"),
+    (trees, "is_right", "(tree, clauses)"), (trees, "asks", "(tree)"), (trees, "chain_of_tree", "(tree)"),
+    (trees, "tree_of", "(chain, *, most=2000)"),
 )
 
 CLASSES = (

@@ -1,0 +1,71 @@
+"""Whether sayings of two sides can all be true at once, and whether sayings give a saying."""
+
+from middlesay.clausing import clauses_of
+from middlesay.errors import TooMany
+from middlesay.sayings import names_of
+from middlesay.search import search
+from middlesay.tables import table
+from middlesay.words import SMALL_LETTERS
+
+MOST_NAMES = 9
+
+
+def decided(ones, others):
+    """("row", row) in which all sayings hold, or ("clash", one, other, Chain) of the clauses of both sides."""
+    sayings = list(ones) + list(others)
+    names = sorted({name for saying in sayings for name in names_of(saying)})
+    if len(names) > MOST_NAMES:
+        raise TooMany(MOST_NAMES)
+    if max(len(ones), len(others)) > len(SMALL_LETTERS):
+        raise TooMany(len(SMALL_LETTERS))
+    tables = [table(saying, names) for saying in sayings]
+    full = (1 << (1 << len(names))) - 1
+    rows = _in_all(tables, full)
+    if rows:
+        least = (rows & -rows).bit_length() - 1
+        return ("row", {name: least >> place & 1 == 1 for place, name in enumerate(names)})
+    one = _clauses_by(ones, "one")
+    other = _clauses_by(others, "other")
+    needed = []
+    for place in _clashing(tables, full):
+        needed.extend((one + other)[place])
+    # All that sayings have beside their names is fixed by these, so it is never too many that are asked.
+    _, chain = search(needed, order=tuple(names))
+    return ("clash", _one_behind_the_other(one), _one_behind_the_other(other), chain)
+
+
+def given_by(sayings, saying):
+    """("row", row) in which the sayings hold and the one doesn't, or ("chain", clauses, Chain) that they give it."""
+    told = decided(sayings, [("not", saying)])
+    if told[0] == "row":
+        return told
+    _, one, other, chain = told
+    return ("chain", one + other, chain)
+
+
+def _in_all(tables, full):
+    """The rows, as bits, that are in all of these tables."""
+    rows = full
+    for held in tables:
+        rows &= held
+    return rows
+
+
+def _clashing(tables, full):
+    """Places of tables that have no row in common, none of which can be left out."""
+    kept = list(range(len(tables)))
+    for place in range(len(tables)):
+        fewer = [other for other in kept if other != place]
+        if not _in_all([tables[other] for other in fewer], full):
+            kept = fewer
+    return kept
+
+
+def _clauses_by(sayings, side):
+    """The clauses of each saying of a side, by a mark of its own."""
+    return [clauses_of(saying, f"{side}{SMALL_LETTERS[place]}") for place, saying in enumerate(sayings)]
+
+
+def _one_behind_the_other(lists):
+    """All that stands in lists, in their order."""
+    return [clause for clauses in lists for clause in clauses]
