@@ -26,10 +26,9 @@ def decided(ones, others):
         return ("row", {name: least >> place & 1 == 1 for place, name in enumerate(names)})
     one = _clauses_by(ones, "one")
     other = _clauses_by(others, "other")
-    needed = []
-    for place in _clashing(tables, full):
-        needed.extend((one + other)[place])
-    # All that sayings have beside their names is fixed by these, so it is never too many that are asked.
+    lists = one + other
+    needed = _one_behind_the_other([lists[place] for place in _clashing(tables, full)])
+    # The names fix all fresh ones, so with these asked first there are never too many asked.
     _, chain = search(needed, order=tuple(names))
     return ("clash", _one_behind_the_other(one), _one_behind_the_other(other), chain)
 

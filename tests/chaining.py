@@ -1,5 +1,6 @@
 """Lists of clauses and Chains that several tests go through, and plain ways to tell what is asked of them."""
 
+from functools import cache
 from random import Random
 
 from middlesay.chains import Chain
@@ -115,11 +116,14 @@ def some_clash(seed, names):
                 return Chain(steps)
 
 
+@cache
 def some_chains():
     """Chains of several kinds: of few and of many names, with long ways and with short ones."""
     told = [some_chain(seed, list("abcdefg")[:2 + seed % 6], 40 + seed % 90) for seed in range(250)]
-    return told + some_clashes()
+    return (*told, *some_clashes())
 
 
+@cache
 def some_clashes():
-    return [some_clash(seed, list("abcdef")[:2 + seed % 5]) for seed in range(120)]
+    """Chains of chance of the empty clause, of two to six names."""
+    return tuple(some_clash(seed, list("abcdef")[:2 + seed % 5]) for seed in range(120))

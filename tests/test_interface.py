@@ -4,7 +4,7 @@ import inspect
 import unittest
 
 from middlesay import chains, clausing, deciding, errors, literals, sayings, sayingtexts, search, steptexts, tables
-from middlesay import trees, turning
+from middlesay import middles, papers, traces, trees, turning, unfolding
 
 FUNCTIONS = (
     (sayings, "is_saying", "(thing)"), (sayings, "names_of", "(saying)"), (sayings, "holds", "(saying, row)"),
@@ -20,6 +20,10 @@ FUNCTIONS = (
     (deciding, "decided", "(ones, others)"), (deciding, "given_by", "(sayings, saying)"),
     (trees, "is_right", "(tree, clauses)"), (trees, "asks", "(tree)"), (trees, "chain_of_tree", "(tree)"),
     (trees, "tree_of", "(chain, *, most=2000)"),
+    (unfolding, "is_tree_chain", "(chain)"), (unfolding, "unfolded", "(chain, *, most=4000)"),
+    (unfolding, "regular", "(chain)"), (traces, "first_wrong", "(trace, clauses)"),
+    (traces, "chain_of_trace", "(trace, clauses)"), (traces, "needed", "(trace, clauses)"),
+    (traces, "trace_of", "(chain)"), (papers, "papers", "(middle)"), (papers, "stronger", "(middle, other)"),
 )
 
 CLASSES = (
@@ -33,6 +37,11 @@ CLASSES = (
     (chains, "Chain", {
         "__init__": "(self, steps)", "steps": "(self)", "clauses": "(self)", "last": "(self)", "givens": "(self)",
         "__len__": "(self)", "__eq__": "(self, other)", "__str__": "(self)",
+    }),
+    (middles, "Middle", {
+        "__init__": "(self, chain, one, other, *, way='both', marks=None)", "knots": "(self)", "names": "(self)",
+        "table": "(self, names)", "marks_of": "(self, step)", "saying": "(self, *, most=400)",
+        "clauses": "(self, letter='m')", "__len__": "(self)",
     }),
 )
 
