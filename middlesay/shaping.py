@@ -112,11 +112,22 @@ def _group_of_knot(knot, groups):
     if knot[0] == "none":
         return Group("and", [_saying_of_literal((name, not yes)) for name, yes in knot[1]])
     if knot[0] == "pick":
-        _, name, i, j = knot
-        first = _joined("or", Group("or", [_saying_of_literal((name, True))]), groups[i])
-        second = _joined("or", Group("or", [_saying_of_literal((name, False))]), groups[j])
-        return _joined("and", first, second)
+        return _picked(knot[1], groups[knot[2]], groups[knot[3]])
     return _joined(knot[0], groups[knot[1]], groups[knot[2]])
+
+
+def _picked(name, first, second):
+    """The second group where the name is true, else the first; None where it is too great."""
+    if first is None or second is None:
+        return None
+    # Beside one that never holds the other one needn't say for which of the two it stands.
+    held = first if second.is_constant("or") else _joined("or", _group_of_literal(name, True), first)
+    other = second if first.is_constant("or") else _joined("or", _group_of_literal(name, False), second)
+    return _joined("and", held, other)
+
+
+def _group_of_literal(name, yes):
+    return Group("or", [_saying_of_literal((name, yes))])
 
 
 def _saying_of_literal(literal):

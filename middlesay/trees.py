@@ -15,10 +15,10 @@ def is_right(tree, clauses):
     while waiting:
         thing, answers = waiting.pop()
         if _is_ask(thing):
-            if thing[1] in answers or len(answers) == MOST_ON_A_WAY:
+            _, name, yes, no = thing
+            if name in answers or len(answers) == MOST_ON_A_WAY:
                 return False
-            waiting.append((thing[2], {**answers, thing[1]: True}))
-            waiting.append((thing[3], {**answers, thing[1]: False}))
+            waiting.extend([(yes, {**answers, name: True}), (no, {**answers, name: False})])
         elif not _is_end(thing) or thing[1] not in known or not _is_false(thing[1], answers):
             return False
     return True

@@ -205,6 +205,12 @@ class Refused(unittest.TestCase):
         self.assert_no_mark((-5, "z"), {(3, "b"): None, (-5, "z"): "one", (10, "a"): "one", (2, "a"): "one"})
         self.assert_no_mark((3, "b"), {(10, "b"): None, (3, "b"): "up"})
 
+    def test_a_way_that_is_no_mark(self):
+        self.assert_no_mark((1, "b"), None, way="up")
+        self.assert_no_mark((3, "b"), {(1, "b"): "one"}, way="")
+        self.assertEqual({"a": "one", "b": "one"}, Middle(
+            PLAIN, ONE, OTHER, way="up", marks={(1, "b"): "one", (3, "b"): "other"}).marks_of(1))
+
     def test_a_shared_name_in_steps_that_have_it_not(self):
         told = chain("a, -a b, = 0 1 a, -b, = 2 3 b, -a, = 0 5 a")
         one, other = clauses("a, -b"), clauses("-a b, -a")
@@ -361,6 +367,21 @@ class Sayings(unittest.TestCase):
                 except TooGreat as refused:
                     self.assertEqual(400, refused.most)
                     self.assertGreater(len(middle.names()), 6)
+
+    def test_of_seven_to_nine_names(self):
+        told = 0
+        for number in range(60):
+            sayings = some_sayings(5000 + number, 2, list("abcdefghi"), 7)
+            for one, other in ((sayings[:1], [("not", sayings[0])]), (sayings, [("not", sayings[1])])):
+                _, one, other, clash = decided(one, other)
+                middle = Middle(clash, one, other)
+                if len(middle.names()) > 6:
+                    told += 1
+                    try:
+                        self.assert_saying(middle)
+                    except TooGreat:
+                        self.assertGreater(len(middle.names()), 7)
+        self.assertGreater(told, 5)
 
     def test_a_row_of_many_names_is_told(self):
         names = [first + second for first in "abcdefg" for second in "abcdefgh"]

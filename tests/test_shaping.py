@@ -6,7 +6,7 @@ from random import Random
 from middlesay.sayings import is_saying, names_of
 from middlesay.shaping import parts_in, saying_of_knots, saying_of_table
 from middlesay.tables import table
-from tests.helping import A, B, NO, YES, evenly, nots
+from tests.helping import A, B, C, NO, YES, evenly, nots
 
 NAMES = list("abcdefgh")
 
@@ -85,6 +85,15 @@ class OfKnots(unittest.TestCase):
         saying = saying_of_knots(knots)
         self.assertEqual(table(("and", ("or", ("name", "c"), A), ("if", ("name", "c"), B)), ["a", "b", "c"]),
                          table(saying, ["a", "b", "c"]))
+
+    def test_pick_of_what_never_or_always_holds(self):
+        none, both, a = ("any", ()), ("none", ()), ("any", (("a", True),))
+        for first, second, saying in ((none, a, ("and", C, A)), (a, none, ("and", A, ("not", C))),
+                                      (both, a, ("or", ("not", C), A)), (a, both, ("or", C, A)), (none, none, NO),
+                                      (both, both, YES), (none, both, C), (both, none, ("not", C))):
+            told = saying_of_knots([first, second, ("pick", "c", 0, 1)])
+            self.assertEqual(table(saying, ["a", "c"]), table(told, ["a", "c"]))
+            self.assertLessEqual(parts_in(told), parts_in(saying))
 
     def test_knots_of_chance(self):
         chance = Random(9)
