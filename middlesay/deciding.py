@@ -4,7 +4,7 @@ from middlesay.clausing import clauses_of
 from middlesay.errors import TooMany
 from middlesay.sayings import names_of
 from middlesay.search import search
-from middlesay.tables import table
+from middlesay.tables import row_of, table
 from middlesay.words import SMALL_LETTERS
 
 MOST_NAMES = 9
@@ -23,7 +23,7 @@ def decided(ones, others):
     rows = _in_all(tables, full)
     if rows:
         least = (rows & -rows).bit_length() - 1
-        return ("row", {name: least >> place & 1 == 1 for place, name in enumerate(names)})
+        return ("row", row_of(least, names))
     one = _clauses_by(ones, "one")
     other = _clauses_by(others, "other")
     lists = one + other

@@ -2,17 +2,13 @@
 
 from middlesay.chains import comes_to
 from middlesay.errors import NoChain, NoName, TooGreat
+from middlesay.knots import names_of_knots, own_saying, table_of_knots
 from middlesay.labelling import Labelling
 from middlesay.literals import clause_of, denied
-from middlesay.sayings import MOST_PARTS
-from middlesay.shaping import parts_in, saying_of_knots, saying_of_table
-from middlesay.tables import column
+from middlesay.shaping import parts_in
 from middlesay.words import is_word, refuse_lacking
 
 KINDS = {"one": "or", "other": "and"}
-# Of so many names each table has a saying that isn't too great; of more only some have.
-ALWAYS_BY_TABLE = 7
-MOST_BY_TABLE = 12
 
 
 class Middle:
@@ -31,17 +27,12 @@ class Middle:
 
     def names(self):
         """The names that stand in the knots, sorted."""
-        return sorted({name for knot in self._knots for name in _names_of_knot(knot)})
+        return names_of_knots(self._knots)
 
     def table(self, names):
         """The whole number whose bit r tells whether the middle holds in row r of the names."""
         refuse_lacking(self.names(), names)
-        full = (1 << (1 << len(names))) - 1
-        columns = {name: column(place, full) for place, name in enumerate(names)}
-        rows = []
-        for knot in self._knots:
-            rows.append(_rows_of_knot(knot, rows, columns, full))
-        return rows[-1]
+        return table_of_knots(self._knots, names)
 
     def marks_of(self, step):
         """The marks of a step's clause, by its names."""
@@ -49,11 +40,10 @@ class Middle:
 
     def saying(self, *, most=400):
         """A saying of the middle's names alone that is the same."""
-        names = self.names()
-        for name in names:
+        for name in self.names():
             if not is_word(name):
                 raise NoName(name)
-        saying = self._own_saying(names)
+        saying = own_saying(self._knots)
         if saying is None or parts_in(saying) > most:
             raise TooGreat(most)
         return saying
@@ -64,15 +54,6 @@ class Middle:
 
     def __len__(self):
         return len(self._knots)
-
-    def _own_saying(self, names):
-        """The program's saying; None where it has none."""
-        saying = None
-        if len(names) <= MOST_BY_TABLE:
-            saying = saying_of_table(self.table(names), names)
-        if len(names) <= ALWAYS_BY_TABLE or (saying is not None and parts_in(saying) <= MOST_PARTS):
-            return saying
-        return saying_of_knots(self._knots)
 
     def _clauses_of_knot(self, number, letter):
         """The clauses that fix the name of one knot."""
@@ -98,28 +79,6 @@ def _knot_of(labelling, number, step):
     marks = labelling.of_step(number)
     mark = "other" if ours else "one"
     return ("any" if ours else "none", tuple([literal for literal in step[1] if marks[literal[0]] == mark]))
-
-
-def _names_of_knot(knot):
-    """The names that stand in a knot."""
-    if knot[0] == "pick":
-        return [knot[1]]
-    return [name for name, _ in knot[1]] if knot[0] in ("any", "none") else []
-
-
-def _rows_of_knot(knot, rows, columns, full):
-    """The rows, as bits, in which a knot holds, of those of the knots ahead."""
-    if knot[0] in ("any", "none"):
-        some = 0
-        for name, yes in knot[1]:
-            some |= columns[name] if yes else full ^ columns[name]
-        return some if knot[0] == "any" else full ^ some
-    i, j = rows[knot[-2]], rows[knot[-1]]
-    if knot[0] == "or":
-        return i | j
-    if knot[0] == "and":
-        return i & j
-    return (columns[knot[1]] & j) | ((full ^ columns[knot[1]]) & i)
 
 
 def _fixing_rows(knot, told, i, j):

@@ -51,10 +51,13 @@ def names_of(saying):
 
 def value_of(saying, values, full):
     """The rows in which a saying holds, as bits, of the rows of each name and of all rows."""
-    kind = saying[0]
-    if kind == "name":
+    if saying[0] == "name":
         return values[saying[1]]
-    parts = [value_of(part, values, full) for part in parts_of(saying)]
+    return value_of_parts(saying[0], [value_of(part, values, full) for part in parts_of(saying)], full)
+
+
+def value_of_parts(kind, parts, full):
+    """The rows in which a saying of this kind, but no name, holds, of those of its parts and of all rows."""
     if kind == "yes":
         return full
     if kind == "no":

@@ -24,3 +24,8 @@ def same(saying, other):
     """Whether two sayings hold in the same rows of all names of both."""
     names = sorted(set(names_of(saying) + names_of(other)))
     return table(saying, names) == table(other, names)
+
+
+def row_of(number, names):
+    """The row of this number: the name at place k is true where bit k of the number is 1."""
+    return {name: number >> place & 1 == 1 for place, name in enumerate(names)}

@@ -1,4 +1,4 @@
-"""Words, and names that have to be known."""
+"""Words, letters for numbers, and names that have to be known."""
 
 from middlesay.errors import NoName
 
@@ -12,6 +12,15 @@ def is_word(thing):
     if not isinstance(thing, str) or not 1 <= len(thing) <= MOST_LETTERS:
         return False
     return thing not in BARRED and all([sign in SMALL_LETTERS for sign in thing])
+
+
+def letters_of(number):
+    """The letters of a number: a to z for the first ones, then aa, ab and so on."""
+    letters = ""
+    while number >= 0:
+        letters = SMALL_LETTERS[number % len(SMALL_LETTERS)] + letters
+        number = number // len(SMALL_LETTERS) - 1
+    return letters
 
 
 def refuse_lacking(names, known):

@@ -4,7 +4,7 @@ import inspect
 import unittest
 
 from middlesay import chains, clausing, deciding, errors, literals, sayings, sayingtexts, search, steptexts, tables
-from middlesay import middles, papers, traces, trees, turning, unfolding
+from middlesay import defining, forgetting, middles, papers, parts, sequents, traces, trees, turning, unfolding
 
 FUNCTIONS = (
     (sayings, "is_saying", "(thing)"), (sayings, "names_of", "(saying)"), (sayings, "holds", "(saying, row)"),
@@ -24,6 +24,11 @@ FUNCTIONS = (
     (unfolding, "regular", "(chain)"), (traces, "first_wrong", "(trace, clauses)"),
     (traces, "chain_of_trace", "(trace, clauses)"), (traces, "needed", "(trace, clauses)"),
     (traces, "trace_of", "(chain)"), (papers, "papers", "(middle)"), (papers, "stronger", "(middle, other)"),
+    (forgetting, "forgotten", "(clauses, names, *, most=400)"),
+    (forgetting, "strongest", "(one, other, *, most=400)"), (forgetting, "weakest", "(one, other, *, most=400)"),
+    (defining, "defined", "(sayings, name, *, by=None)"), (sequents, "is_stair", "(left, right, thing)"),
+    (sequents, "steps_in", "(stair)"), (sequents, "bound_of", "(stair)"),
+    (sequents, "sequent", "(left, right, *, most=4000)"), (sequents, "uncut", "(left, right, stair, *, most=4000)"),
 )
 
 CLASSES = (
@@ -42,6 +47,10 @@ CLASSES = (
         "__init__": "(self, chain, one, other, *, way='both', marks=None)", "knots": "(self)", "names": "(self)",
         "table": "(self, names)", "marks_of": "(self, step)", "saying": "(self, *, most=400)",
         "clauses": "(self, letter='m')", "__len__": "(self)",
+    }),
+    (parts, "Parts", {
+        "__init__": "(self, parts, up, chain, *, way='other')", "middle": "(self, part)", "clauses": "(self, part)",
+        "paper": "(self, part)",
     }),
 )
 

@@ -1,0 +1,162 @@
+"""Stairs without cut of sequents, or rows in which their left hold and none of their right."""
+
+from middlesay.clausing import clauses_of
+from middlesay.sayings import names_of, value_of_parts
+from middlesay.search import search
+from middlesay.stairs import LEFT, RIGHT, SIDES, grown
+from middlesay.tables import column, row_of
+from middlesay.words import letters_of
+
+# Of so many names it is told by tables what is needed of lists; of more it is searched for once.
+MOST_BY_TABLE = 16
+WITHOUT_BOUND = 1 << 60
+
+
+def proved(book, lists, most):
+    """("stair", stair) of the lists, or ("row", row) of all their names in which they don't follow."""
+    names = _names_of_lists(book, lists)
+    if len(names) > MOST_BY_TABLE:
+        row, lists = _searched(book, lists, names)
+        tables = None
+    else:
+        tables = Tables(book, names)
+        row = tables.row(lists)
+    if row is not None:
+        return ("row", row)
+    proving = Proving(book, tables)
+    return ("stair", grown(lists, lambda place: proving.told_at(place), most))
+
+
+def _names_of_lists(book, lists):
+    """The names of all sayings of two lists, sorted."""
+    sayings = [book.saying(number) for number in numbers_in(lists[LEFT] | lists[RIGHT])]
+    return sorted({name for saying in sayings for name in names_of(saying)})
+
+
+def numbers_in(bits):
+    """The numbers that are told by bits, rising."""
+    return [number for number in range(bits.bit_length()) if bits >> number & 1]
+
+
+def _searched(book, lists, names):
+    """A row of these names in which the left hold and none of the right, and None; or None, and what is needed."""
+    clauses = []
+    place_of = {}
+    for side in (LEFT, RIGHT):
+        for number in numbers_in(lists[side]):
+            saying = book.saying(number)
+            mark = f"q{letters_of(len(place_of))}"
+            for clause in clauses_of(saying if side == LEFT else ("not", saying), mark):
+                clauses.append(clause)
+                place_of.setdefault(clause, (side, number))
+    word, told = search(clauses, most=WITHOUT_BOUND)
+    if word == "row":
+        return {name: told.get(name, False) for name in names}, None
+    needed = [0, 0]
+    for clause in told.givens():
+        side, number = place_of[clause]
+        needed[side] |= 1 << number
+    return None, tuple(needed)
+
+
+class Tables:
+    """The rows of some names in which sayings of a book hold, as bits."""
+
+    def __init__(self, book, names):
+        self._book = book
+        self._names = names
+        self._full = (1 << (1 << len(names))) - 1
+        self._rows = {book.number(("name", name)): column(place, self._full) for place, name in enumerate(names)}
+
+    def row(self, lists):
+        """A row in which the left hold and none of the right; None where there is none."""
+        rows = self._full
+        for side, number in _members(lists):
+            rows &= self._telling(side, number)
+        if not rows:
+            return None
+        return row_of((rows & -rows).bit_length() - 1, self._names)
+
+    def needed(self, lists):
+        """Lists that follow already, and of which nothing can be left out, of such as follow."""
+        # Greater sayings are left out first, as it is for them that steps have to be taken.
+        members = sorted(_members(lists), key=lambda member: -self._book.size(member[1]))
+        behind = [self._full]
+        for side, number in reversed(members):
+            behind.append(behind[-1] & self._telling(side, number))
+        rows = self._full
+        kept = [0, 0]
+        for side, number in members:
+            behind.pop()
+            if rows & behind[-1]:
+                rows &= self._telling(side, number)
+                kept[side] |= 1 << number
+        return tuple(kept)
+
+    def _telling(self, side, number):
+        """The rows in which a saying of this list doesn't let the lists follow."""
+        rows = self._rows_of(number)
+        return rows if side == LEFT else self._full ^ rows
+
+    def _rows_of(self, number):
+        if number not in self._rows:
+            parts = [self._rows_of(part) for part in self._book.parts(number)]
+            self._rows[number] = value_of_parts(self._book.saying(number)[0], parts, self._full)
+        return self._rows[number]
+
+
+def _members(lists):
+    """Pairs of a side and a number of all sayings of two lists."""
+    return [(side, number) for side in (LEFT, RIGHT) for number in numbers_in(lists[side])]
+
+
+class Proving:
+    """The program's choice of the step for lists that follow."""
+
+    def __init__(self, book, tables):
+        self._book = book
+        self._tables = tables
+
+    def told_at(self, lists):
+        """The step's word and saying, and the lists of the stairs above it."""
+        book = self._book
+        shutting = book.shutting(lists)
+        if shutting:
+            return ("shut", book.saying((shutting & -shutting).bit_length() - 1), [])
+        if self._tables is not None:
+            # What isn't needed would only be taken apart in vain; and where all is, each stair above is needed.
+            lists = self._tables.needed(lists)
+        side, number = self._chosen(lists)
+        return (SIDES[side], book.saying(number), book.above(lists, side, number))
+
+    def _chosen(self, lists):
+        """The side and the number of the saying that is taken apart: one of one stair above, or of the fewest ways."""
+        members = [member for member in _members(lists) if self._book.put_in(member[0], member[1])]
+        for side, number in members:
+            if len(self._book.put_in(side, number)) == 1:
+                return side, number
+        counted = {}
+        return min(members, key=lambda member: self._ways(member, lists, counted))
+
+    def _ways(self, member, lists, counted):
+        """How many ways stay where a saying is taken apart as far as may be, without those that the lists shut."""
+        if member not in counted:
+            counted[member] = self._count_ways(member, lists, counted)
+        return counted[member]
+
+    def _count_ways(self, member, lists, counted):
+        side, number = member
+        bits = [0, 0]
+        bits[side] = 1 << number
+        if self._book.shutting((lists[LEFT] | bits[LEFT], lists[RIGHT] | bits[RIGHT])):
+            return 0
+        branches = self._book.put_in(side, number)
+        if not branches:
+            return 1
+        total = 0
+        for branch in branches:
+            ways = 1
+            for pair in branch:
+                ways *= self._ways(pair, lists, counted)
+            total += ways
+        return total
