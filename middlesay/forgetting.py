@@ -35,7 +35,11 @@ class Forgetting:
 
     def easiest(self, names):
         """The one of these names whose forgetting makes the fewest meetings."""
-        return min(names, key=lambda name: self._meetings(name))
+        counts = {}
+        for mask in self._steps:
+            for bit in _bits_of(mask):
+                counts[bit] = counts.get(bit, 0) + 1
+        return min(names, key=lambda name: self._meetings(name, counts))
 
     def forget(self, name):
         """Take all meetings on a name in the place of the clauses in which it stands."""
@@ -61,9 +65,9 @@ class Forgetting:
         bit, other = self._masks[(name, True)], self._masks[(name, False)]
         return {mask: True for mask in self._steps if mask & bit}, {mask: True for mask in self._steps if mask & other}
 
-    def _meetings(self, name):
-        first, second = self._with_name(name)
-        return len(first) * len(second)
+    def _meetings(self, name, counts):
+        """How many meetings on a name there are, of the number of clauses that each literal stands in."""
+        return counts.get(self._masks[(name, True)], 0) * counts.get(self._masks[(name, False)], 0)
 
     def _step_of(self, mask, met, name):
         """The step that comes to a clause that was there already, or to the meeting of these two."""
@@ -74,13 +78,33 @@ class Forgetting:
     def _needed(self, masks):
         """Those of these clauses of which no other one is a part; refused where they are too many."""
         kept = []
+        by_least = {}
         # A part's bits are among the whole's, so it is the lesser number, and stands ahead.
         for mask in sorted(masks):
-            if not any([part & mask == part for part in kept]):
+            if not _has_part(mask, by_least):
+                by_least.setdefault(mask & -mask, []).append(mask)
                 kept.append(mask)
                 if len(kept) > self._most:
                     raise TooGreat(self._most)
         return kept
+
+
+def _bits_of(mask):
+    """The bits of a clause, each by itself."""
+    bits = []
+    while mask:
+        bits.append(mask & -mask)
+        mask &= mask - 1
+    return bits
+
+
+def _has_part(mask, by_least):
+    """Whether one of the clauses, told by their least bits, is a part of this one."""
+    for bit in [0] + _bits_of(mask):
+        for part in by_least.get(bit, ()):
+            if part & mask == part:
+                return True
+    return False
 
 
 def strongest(one, other, *, most=400):

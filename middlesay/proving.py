@@ -20,7 +20,7 @@ def proved(book, lists, most):
         tables = None
     else:
         tables = Tables(book, names)
-        row = tables.row(lists)
+        row = tables.open_row(lists)
     if row is not None:
         return ("row", row)
     proving = Proving(book, tables)
@@ -68,7 +68,7 @@ class Tables:
         self._full = (1 << (1 << len(names))) - 1
         self._rows = {book.number(("name", name)): column(place, self._full) for place, name in enumerate(names)}
 
-    def row(self, lists):
+    def open_row(self, lists):
         """A row in which the left hold and none of the right; None where there is none."""
         rows = self._full
         for side, number in _members(lists):

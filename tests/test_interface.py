@@ -1,10 +1,11 @@
-"""Names and arguments of the interface, as far as it is built."""
+"""Names and arguments of the interface."""
 
 import inspect
 import unittest
 
 from middlesay import chains, clausing, deciding, errors, literals, sayings, sayingtexts, search, steptexts, tables
-from middlesay import defining, forgetting, middles, papers, parts, sequents, traces, trees, turning, unfolding
+from middlesay import chaintexts, crossing, defining, desk, forgetting, middles, papers, parts, reaching, sequents
+from middlesay import splitting, traces, trees, turning, unfolding
 
 FUNCTIONS = (
     (sayings, "is_saying", "(thing)"), (sayings, "names_of", "(saying)"), (sayings, "holds", "(saying, row)"),
@@ -29,6 +30,12 @@ FUNCTIONS = (
     (defining, "defined", "(sayings, name, *, by=None)"), (sequents, "is_stair", "(left, right, thing)"),
     (sequents, "steps_in", "(stair)"), (sequents, "bound_of", "(stair)"),
     (sequents, "sequent", "(left, right, *, most=4000)"), (sequents, "uncut", "(left, right, stair, *, most=4000)"),
+    (splitting, "split", "(first, second, stair)"), (crossing, "sayings_of", "(clauses)"),
+    (crossing, "from_tree", "(tree, clauses)"), (crossing, "to_tree", "(clauses, stair)"),
+    (chaintexts, "read_clause", "(text)"), (chaintexts, "read_chain", "(text)"),
+    (chaintexts, "show_trace", "(trace)"), (chaintexts, "read_trace", "(text)"),
+    (chaintexts, "show_tree", "(tree)"), (chaintexts, "read_tree", "(text)"),
+    (reaching, "reached", "(names, begin, step, bad, *, order=())"),
 )
 
 CLASSES = (
@@ -51,6 +58,11 @@ CLASSES = (
     (parts, "Parts", {
         "__init__": "(self, parts, up, chain, *, way='other')", "middle": "(self, part)", "clauses": "(self, part)",
         "paper": "(self, part)",
+    }),
+    (desk, "Desk", {
+        "__init__": "(self)", "put": "(self, label, side, saying)", "drop": "(self, label)", "move": "(self, label)",
+        "undo": "(self)", "several": "(self, rows)", "labels": "(self)", "clash": "(self, *, most=5000)",
+        "truth": "(self, *, most=5000)", "middle": "(self, *, way='both', most=5000)", "deeds": "(self)",
     }),
 )
 
