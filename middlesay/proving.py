@@ -8,18 +8,19 @@ from middlesay.tables import column, row_of
 from middlesay.words import letters_of
 
 # Of so many names it is told by tables what is needed of lists; of more it is searched for once.
-MOST_BY_TABLE = 16
+MOST_BY_TABLE = 18
 WITHOUT_BOUND = 1 << 60
 
 
 def proved(book, lists, most):
     """("stair", stair) of the lists, or ("row", row) of all their names in which they don't follow."""
     names = _names_of_lists(book, lists)
+    row = None
     if len(names) > MOST_BY_TABLE:
         row, lists = _searched(book, lists, names)
-        tables = None
-    else:
-        tables = Tables(book, names)
+        names = names if lists is None else _names_of_lists(book, lists)
+    tables = Tables(book, names) if len(names) <= MOST_BY_TABLE else None
+    if row is None and tables is not None:
         row = tables.open_row(lists)
     if row is not None:
         return ("row", row)
@@ -41,20 +42,18 @@ def numbers_in(bits):
 def _searched(book, lists, names):
     """A row of these names in which the left hold and none of the right, and None; or None, and what is needed."""
     clauses = []
-    place_of = {}
-    for side in (LEFT, RIGHT):
-        for number in numbers_in(lists[side]):
-            saying = book.saying(number)
-            mark = f"q{letters_of(len(place_of))}"
-            for clause in clauses_of(saying if side == LEFT else ("not", saying), mark):
-                clauses.append(clause)
-                place_of.setdefault(clause, (side, number))
+    member_of = {}
+    for place, member in enumerate(_members(lists)):
+        saying = book.saying(member[1])
+        for clause in clauses_of(saying if member[0] == LEFT else ("not", saying), f"q{letters_of(place)}"):
+            clauses.append(clause)
+            member_of.setdefault(clause, member)
     word, told = search(clauses, most=WITHOUT_BOUND)
     if word == "row":
         return {name: told.get(name, False) for name in names}, None
     needed = [0, 0]
     for clause in told.givens():
-        side, number = place_of[clause]
+        side, number = member_of[clause]
         needed[side] |= 1 << number
     return None, tuple(needed)
 

@@ -7,9 +7,13 @@ from middlesay.words import refuse_lacking
 def column(place, full):
     """The rows, as bits, in which the name at this place is true: bit r where bit place of r is 1."""
     width = 1 << place
-    # Rows without the bit and rows with it take turns, width of each at a time, and
-    # (1 << width) - 1, times (1 << width) + 1, is two such turns full: the quotient has those without.
-    return (full // ((1 << width) + 1)) << width
+    # Rows without the bit and rows with it take turns, width of each at a time.
+    rows = ((1 << width) - 1) << width
+    told = 2 * width
+    while told < full.bit_length():
+        rows |= rows << told
+        told *= 2
+    return rows
 
 
 def table(saying, names):
