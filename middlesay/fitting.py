@@ -9,7 +9,7 @@ NONE_TAKEN = ((0, 0), (0, 0))
 def fitted(book, stair, lists):
     """A stair of the lists, of one that would be theirs if alike sayings were several; its bound is no greater."""
     fitting = Fitting(book, None, None)
-    return grown((stair, lists, NONE_TAKEN, False), lambda place: fitting.told_at(place), None)
+    return grown((stair, lists, NONE_TAKEN), lambda place: fitting.told_at(place), None)
 
 
 def without_cut(book, lists, number, stairs, most):
@@ -29,7 +29,7 @@ def without_cut(book, lists, number, stairs, most):
     if other_size + other_uses * size < size + uses * other_size:
         walked, spare = second, first
     fitting = Fitting(book, number, spare)
-    return grown((walked, lists, NONE_TAKEN, True), lambda place: fitting.told_at(place), most)
+    return grown((walked, lists, NONE_TAKEN), lambda place: fitting.told_at(place), most)
 
 
 def _count_shut(stair, saying):
@@ -40,8 +40,8 @@ def _count_shut(stair, saying):
 class Fitting:
     """Steps of stairs as they go on in lists in which some sayings are there by their parts alone.
 
-    A place is a stair, the lists, what was taken apart on the way, and whether the spare stair may take its turn where
-    it is shut by the name of this number, which the lists have on one side alone.
+    A place is a stair, the lists, and what was taken apart on the way. Where it is shut by the name of this number, but
+    the lists lack that on one side, the spare stair takes its turn, which has it on the other one.
     """
 
     def __init__(self, book, number, spare):
@@ -59,7 +59,7 @@ class Fitting:
 
     def _step_at(self, place):
         """What is told at a place; None where its stair can't go on there."""
-        stair, lists, _, _ = place
+        stair, lists, _ = place
         shutting = self._book.shutting(lists)
         least = (shutting & -shutting).bit_length() - 1
         # No stair is less than one that a name shuts.
@@ -68,7 +68,7 @@ class Fitting:
         number = self._book.found(stair[1])
         if stair[0] == "shut" and shutting >> number & 1:
             return ("shut", stair[1], [])
-        if stair[0] == "shut" and self._turns(place, number):
+        if stair[0] == "shut" and number == self._number:
             return None
         side = _side_with(lists, number) if stair[0] == "shut" else SIDES.index(stair[0])
         if side is None or not lists[side] >> number & 1:
@@ -77,27 +77,23 @@ class Fitting:
 
     def _instead_of(self, place):
         """The place with the stair that goes on in the place of one that can't."""
-        stair, lists, taken, may_turn = place
+        stair, lists, taken = place
         number = self._book.found(stair[1])
         if stair[0] != "shut":
             branch = 0 if taken[SIDES.index(stair[0])][0] >> number & 1 else 1
-            return (stair[2][branch], lists, taken, may_turn)
-        if self._turns(place, number):
-            return (self._spare, lists, taken, False)
-        return (self._shut_by_part(number, lists, taken), lists, taken, may_turn)
-
-    def _turns(self, place, number):
-        """Whether the spare stair takes its turn where a stair is shut."""
-        return place[3] and number == self._number
+            return (stair[2][branch], lists, taken)
+        if number == self._number:
+            return (self._spare, lists, taken)
+        return (self._shut_by_part(number, lists, taken), lists, taken)
 
     def _above(self, place, side, number):
         """The places above the one where this saying is taken apart."""
-        stair, lists, taken, may_turn = place
+        stair, lists, taken = place
         told = []
         for branch, put in enumerate(self._book.above(lists, side, number)):
             now = _taken_too(taken, side, branch, number)
             part = stair[2][branch] if len(stair) == 3 else self._shut_by_part(number, put, now)
-            told.append((part, put, now, may_turn))
+            told.append((part, put, now))
         return told
 
     def _shut_by_part(self, number, lists, taken):

@@ -8,7 +8,7 @@ from middlesay.tables import column, row_of
 from middlesay.words import letters_of
 
 # Of so many names it is told by tables what is needed of lists; of more it is searched for once.
-MOST_BY_TABLE = 18
+MOST_BY_TABLE = 20
 WITHOUT_BOUND = 1 << 60
 
 
@@ -25,7 +25,7 @@ def proved(book, lists, most):
     if row is not None:
         return ("row", row)
     proving = Proving(book, tables)
-    return ("stair", grown(lists, lambda place: proving.told_at(place), most))
+    return ("stair", grown((lists, lists), lambda place: proving.told_at(place), most))
 
 
 def _names_of_lists(book, lists):
@@ -110,44 +110,46 @@ def _members(lists):
 
 
 class Proving:
-    """The program's choice of the step for lists that follow."""
+    """The program's choice of the step for lists that follow: of what is needed of them, and of all that is there."""
 
     def __init__(self, book, tables):
         self._book = book
         self._tables = tables
 
-    def told_at(self, lists):
-        """The step's word and saying, and the lists of the stairs above it."""
+    def told_at(self, place):
+        """The step's word and saying at a place, and the places of the stairs above it."""
         book = self._book
-        shutting = book.shutting(lists)
+        lists, whole = place
+        shutting = book.shutting(whole)
         if shutting:
             return ("shut", book.saying((shutting & -shutting).bit_length() - 1), [])
         if self._tables is not None:
-            # What isn't needed would only be taken apart in vain; and where all is, each stair above is needed.
+            # What isn't needed would only be taken apart in vain.
             lists = self._tables.needed(lists)
-        side, number = self._chosen(lists)
-        return (SIDES[side], book.saying(number), book.above(lists, side, number))
+        side, number = self._chosen(lists, whole)
+        above = list(zip(book.above(lists, side, number), book.above(whole, side, number)))
+        return (SIDES[side], book.saying(number), above)
 
-    def _chosen(self, lists):
+    def _chosen(self, lists, whole):
         """The side and the number of the saying that is taken apart: one of one stair above, or of the fewest ways."""
         members = [member for member in _members(lists) if self._book.put_in(member[0], member[1])]
         for side, number in members:
             if len(self._book.put_in(side, number)) == 1:
                 return side, number
         counted = {}
-        return min(members, key=lambda member: self._ways(member, lists, counted))
+        return min(members, key=lambda member: self._ways(member, whole, counted))
 
-    def _ways(self, member, lists, counted):
-        """How many ways stay where a saying is taken apart as far as may be, without those that the lists shut."""
+    def _ways(self, member, whole, counted):
+        """How many ways stay where a saying is taken apart as far as may be, without those that are shut at once."""
         if member not in counted:
-            counted[member] = self._count_ways(member, lists, counted)
+            counted[member] = self._count_ways(member, whole, counted)
         return counted[member]
 
-    def _count_ways(self, member, lists, counted):
+    def _count_ways(self, member, whole, counted):
         side, number = member
         bits = [0, 0]
         bits[side] = 1 << number
-        if self._book.shutting((lists[LEFT] | bits[LEFT], lists[RIGHT] | bits[RIGHT])):
+        if self._book.shutting((whole[LEFT] | bits[LEFT], whole[RIGHT] | bits[RIGHT])):
             return 0
         branches = self._book.put_in(side, number)
         if not branches:
@@ -156,6 +158,6 @@ class Proving:
         for branch in branches:
             ways = 1
             for pair in branch:
-                ways *= self._ways(pair, lists, counted)
+                ways *= self._ways(pair, whole, counted)
             total += ways
         return total

@@ -1,6 +1,6 @@
 """Stairs without cut rid of the steps that they don't need."""
 
-from middlesay.stairs import LEFT, RIGHT, SIDES, stairs_above, stairs_within
+from middlesay.stairs import LEFT, NO, RIGHT, SIDES, YES, stairs_above, stairs_within
 
 
 def pruned(book, stair):
@@ -17,7 +17,7 @@ def pruned(book, stair):
 def _needed_to_shut(book, saying):
     """The sayings, by bits for either list, that are needed where a stair is shut."""
     bit = 1 << book.number(saying)
-    return (0 if saying == ("yes",) else bit, 0 if saying == ("no",) else bit)
+    return (0 if saying == YES else bit, 0 if saying == NO else bit)
 
 
 def _pruned_step(book, stair, above):

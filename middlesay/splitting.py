@@ -12,7 +12,7 @@ from middlesay.tables import table
 
 OURS = 0
 THEIRS = 1
-MOST_BY_TABLE = 12
+MOST_BY_TABLE = 16
 
 
 def split(first, second, stair):

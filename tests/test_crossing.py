@@ -185,6 +185,10 @@ class ToTree(Told):
             for _ in range(100):
                 stair = ("cut", saying, (stair, plain))
             self.assertEqual(1, asks(self.assert_to_tree(rows, stair)))
+        rows = clauses("a, -a, b c, -b -c")
+        ors = ("left", ("or", B, C), (plain, ("cut", B, (plain, plain))))
+        for stair in (ors, ("cut", C, (ors, plain)), ("cut", C, (plain, ors))):
+            self.assertEqual(1, asks(self.assert_to_tree(rows, stair)))
 
     def test_a_part_of_a_clause_that_is_a_clause_too(self):
         rows = clauses("a b, a b c, -a, -b, -c")

@@ -136,7 +136,9 @@ class Forgotten(Told):
         self.assert_too_great(400, lambda: forgotten(rows, ["a"]))
         self.assert_too_great(400, lambda: forgotten(rows, ["a"], most=400))
         self.assert_too_great(749, lambda: forgotten(rows, ["a"], most=749))
-        self.assertEqual(750, len(forgotten(rows, ["a"], most=800)))
+        self.assertEqual(750, len(forgotten(rows, ["a"], most=750)))
+        self.assert_too_great(9, lambda: forgotten(fan(5, 5), [], most=9))
+        self.assertEqual(sorted(fan(5, 5)), self.assert_forgotten(fan(5, 5), [], most=10))
 
     def test_with_a_greater_most_nothing_is_refused_that_wasnt_ahead(self):
         for rows, names in ((fan(4, 5), ["a"]), (pigeons(4, 3), [f"a{number}" for number in range(3)]),

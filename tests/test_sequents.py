@@ -7,7 +7,7 @@ from middlesay.errors import TooGreat
 from middlesay.sequents import bound_of, is_stair, sequent, steps_in, uncut
 from tests.helping import A, B, C, D, NO, ODD_THINGS, PAIRS, YES, evenly, nots, some_sayings, within
 from tests.stairing import (
-    follows, is_open, is_plain_stair, names_of_lists, plain_bound, some_sequents, some_stairs, steps_of,
+    branches, follows, is_open, is_plain_stair, names_of_lists, plain_bound, some_sequents, some_stairs, steps_of,
 )
 
 AND, OR, IF, SAME, NOT = ("and", A, B), ("or", A, B), ("if", A, B), ("same", A, B), ("not", A)
@@ -286,6 +286,16 @@ class Sequent(Told):
         self.assertEqual("row", self.assert_told(ors, [A])[0])
         self.assertEqual("stair", self.assert_told(ors + [A], [names[4], ("and", A, ("or", names[5], names[4]))])[0])
 
+    def test_what_isnt_needed_makes_it_no_greater(self):
+        others = [("or", C, D), ("if", D, C), ("same", ("or", C, B), D), ("and", ("or", B, D), ("or", C, D))]
+        self.assertEqual(("stair", ("shut", OR)), self.assert_told([*others, OR], [OR, ("or", B, A)]))
+        for left, right, stair in RULES:
+            plain = steps_in(self.assert_told(left, right)[1])
+            self.assertEqual(plain, steps_in(self.assert_told(others + left, right)[1]))
+            self.assertEqual(plain, steps_in(self.assert_told(left, right + [("and", saying, D) for saying in others])[1]))
+            self.assertLessEqual(plain, steps_in(stair))
+        self.assertLessEqual(steps_in(self.assert_told([parity("abcd", True)], [parity("abcd", False)])[1]), 80)
+
     def test_refused_where_the_stair_has_more(self):
         for left, right in (([parity("abcd", True)], [parity("abcd", False)]), ([A], [A]), ([AND], [("and", B, A)])):
             told = self.assert_told(left, right)
@@ -342,15 +352,48 @@ class Uncut(Told):
         for left, right, stair in RULES:
             self.assertLessEqual(steps_in(self.assert_uncut(left, right, stair)), bound_of(stair))
 
-    def test_a_saying_that_both_take_apart(self):
-        # Behind the cut the one is shut by a saying that the other one took apart already, on either list.
-        for saying in (AND, OR, IF, SAME, NOT):
-            apart = sequent([saying], [("or", saying, D), C])[1]
-            left, right = [saying, ("if", saying, C), ("if", C, D)], [("or", saying, D)]
-            first = ("left", ("if", saying, C), (("shut", saying), ("shut", C)))
-            cut = ("cut", C, (first, apart))
+    def test_a_cut_in_vain(self):
+        # The program's own stair is greater than this one, which has to stay.
+        left, right = [("and", A, B), ("same", YES, A)], [A, ("and", NO, YES), C]
+        plain = ("left", ("and", A, B), (SHUT_A,))
+        for cut in (("cut", C, (plain, ("shut", C))), ("cut", D, (plain, plain)),
+                    ("cut", D, (("cut", C, (plain, plain)), plain))):
             self.assert_stair(left, right, cut)
-            self.assertLessEqual(steps_in(self.assert_uncut(left, right, cut)), bound_of(cut))
+            self.assertEqual(2, steps_in(self.assert_uncut(left, right, cut)))
+
+    def test_a_saying_that_is_taken_apart_ahead_of_where_it_shuts(self):
+        # The first stair takes it apart on one list or on both, to where the name is; the second is shut by it, behind
+        # steps that want the name: with more of them it is the second one that is put in place in the first.
+        whole = ("and", C, D)
+        ahead = ("left", whole, (("shut", C),))
+        inner = [NOT, AND, OR, IF, SAME]
+        sayings = inner + [("not", saying) for saying in inner]
+        sayings += [(kind, saying, D) for kind in PAIRS for saying in inner]
+        sayings += [(kind, B, saying) for kind in PAIRS for saying in inner]
+        for saying in sayings:
+            for words in ("left", "right", "left right", "right left", "left left", "right right left"):
+                for count in (1, 4, 12):
+                    wanting = [("if", C, ("name", f"x{letter}")) for letter in "abcdefghijkl"[:count]]
+                    second = ("shut", saying)
+                    for want in wanting:
+                        second = ("left", want, (("shut", C), second))
+                    left = [saying, whole, *wanting]
+                    first = self.apart(frozenset([saying, whole]), frozenset([saying, C]), words.split(), ahead)
+                    cut = ("cut", C, (first, second))
+                    self.assert_stair(left, [saying], cut)
+                    told = self.assert_uncut(left, [saying], cut, most=bound_of(cut))
+                    self.assertLessEqual(plain_bound(told), bound_of(cut))
+
+    def apart(self, left, right, words, ahead):
+        """The stair that takes apart what it can of a list, of one after the other, and then goes on so."""
+        if not words:
+            return ahead
+        sayings = left if words[0] == "left" else right
+        for saying in sorted(sayings):
+            lists = branches(words[0], saying, left, right)
+            if lists and saying != ahead[1]:
+                return (words[0], saying, tuple([self.apart(*pair, words[1:], ahead) for pair in lists]))
+        return self.apart(left, right, words[1:], ahead)
 
     def test_cuts_on_names_come_to_no_more_than_the_bound(self):
         for left, right, stair in some_stairs(800):
