@@ -46,14 +46,14 @@ class Desk:
 
     def several(self, rows):
         """Do several puts, drops and moves one behind the other, or none of them."""
-        for number, row in enumerate(rows):
-            if not _is_deed(row):
-                raise NoRow(number)
         count, done = len(self._ahead), self._done
         try:
-            for row in rows:
+            # Each row is looked at only when it is come to, so that the first one refused or none decides.
+            for number, row in enumerate(rows):
+                if not _is_deed(row):
+                    raise NoRow(number)
                 self._do(row)
-        except NoLabel:
+        except (NoLabel, NoRow):
             while len(self._ahead) > count:
                 self._take_back()
             self._done = done

@@ -375,6 +375,12 @@ class Several(Told):
         self.assertEqual(kept, rows)
         self.assert_nothing_done(desk)
 
+    def assert_no_label_of_rows(self, label, rows):
+        desk, kept = self.desk(), list(rows)
+        self.assert_no_label(label, lambda: desk.several(rows))
+        self.assertEqual(kept, rows)
+        self.assert_nothing_done(desk)
+
     def assert_nothing_done(self, desk):
         self.assertEqual(4, desk.deeds())
         self.assert_answers(desk, {"p": ("one", A), "q": ("other", B)})
@@ -426,16 +432,31 @@ class Several(Told):
             self.assert_no_label(row[1], lambda: desk.several(self.RIGHT[:number] + [row]))
             self.assert_nothing_done(desk)
 
-    def test_one_that_is_none_goes_ahead_of_one_that_is_refused(self):
-        self.assert_no_row(1, [("drop", "u"), ("drop", "U")])
-        self.assert_no_row(2, [("drop", "p"), ("put", "q", "one", A), ("undo",), ("drop", "p")])
-        self.assert_no_row(3, [("move", "u"), ("move", "v"), ("drop", "u"), (), ("drop",)])
+    def test_the_first_that_is_refused_or_is_none_decides(self):
+        refused = ("drop", "u")
+        for none in ODD_THINGS:
+            for first in range(len(self.RIGHT) + 1):
+                for second in range(first, len(self.RIGHT) + 1):
+                    begin, middle, end = self.RIGHT[:first], self.RIGHT[first:second], self.RIGHT[second:]
+                    self.assert_no_row(first, begin + [none] + middle + [refused] + end)
+                    self.assert_no_label_of_rows("u", begin + [refused] + middle + [none] + end)
+
+    def test_refused_for_what_rows_ahead_did_and_one_that_is_none_behind(self):
+        self.assert_no_label_of_rows("p", [("drop", "p"), ("move", "p"), ()])
+        self.assert_no_label_of_rows("s", [("put", "s", "one", A), ("put", "s", "other", A), ("put", "t", "two", A)])
+        self.assert_no_label_of_rows("u", [("move", "u"), ("undo",)])
+        self.assert_no_row(1, [("drop", "p"), ("undo",), ("move", "p")])
+
+    def test_a_row_that_is_none_though_its_label_would_be_refused_too(self):
+        self.assert_no_row(0, [("put", "p", "two", A)])
+        self.assert_no_row(1, [("move", "p"), ("put", "p", "one", ("nought",)), ("drop", "u")])
 
     def test_refused_in_the_midst_of_many(self):
         desk = self.desk()
         rows = [row for _ in range(200) for row in (("move", "p"), ("drop", "q"), ("put", "q", "other", B))]
         self.assert_no_label("u", lambda: desk.several(rows + [("move", "u")]))
         self.assert_nothing_done(desk)
+        self.assert_no_row(600, rows + [("undo",), ("move", "u")])
         desk = self.desk()
         desk.several(rows)
         self.assertEqual(604, desk.deeds())
